@@ -47,11 +47,6 @@ func (t *Table[V]) Drop(key int) bool {
 	return ok
 }
 
-// Len returns the number of values.
-func (t *Table[V]) Len() int {
-	return len(t.rows)
-}
-
 // Each yields the values themselves, in ascending order of their keys.
 func (t *Table[V]) Each() iter.Seq2[int, *V] {
 	return func(yield func(int, *V) bool) {

