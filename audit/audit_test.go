@@ -256,7 +256,7 @@ func TestP33_1Marks(t *testing.T) {
 func TestP33_1OrderOnce(t *testing.T) {
 	v := api.View{
 		Objects: []api.Object{object(9, api.KindThread, 0, 1, 0), object(4, api.KindThread, 0, 1, 0), object(4, api.KindThread, 0, 1, 0)},
-		Caps:    []api.Held{{Slot: api.Slot{Node: 5, Index: 2}}, {Slot: api.Slot{Node: 5, Index: 1}}, {Slot: api.Slot{Node: 5, Index: 2}}},
+		Caps:    []api.Held{{Slot: api.Slot{Node: 5, Index: 2}, Cap: api.Cap{Kind: 99}}, {Slot: api.Slot{Node: 5, Index: 1}, Cap: api.Cap{Kind: 99}}, {Slot: api.Slot{Node: 5, Index: 2}, Cap: api.Cap{Kind: 98}}},
 		Queue:   []int{4, 4, 9},
 	}
 	v.Pools[3].Obj = 1

@@ -6,6 +6,8 @@ import (
 	"testing"
 
 	"seisin/api"
+	"seisin/audit"
+	"seisin/part"
 	"seisin/phys"
 	"seisin/walk"
 	"seisin/world"
@@ -101,6 +103,9 @@ func TestP31_2Theorems2To4(t *testing.T) {
 			accessesAreJustified(t, e, s, before, after, played)
 			deletedIsGone(t, e, s, before, after, played)
 			cachesAgree(t, w, after)
+			if found := audit.Check(after.view); len(found) > 0 {
+				t.Errorf("the view is not consistent: %+v", found)
+			}
 			if t.Failed() {
 				t.Fatalf("script %d, event %d: %+v: %+v", n, i, e, s)
 			}
@@ -274,6 +279,19 @@ func TestP31_2Theorem1(t *testing.T) {
 	}
 }
 
+// staysApart checks that the groups of threads are isolated, as they were at first.
+func staysApart(t *testing.T, w *world.World, groups map[int]int) {
+	t.Helper()
+	v := w.View()
+	var sides [3][]int
+	for _, x := range v.Threads {
+		sides[groups[x.ID]] = append(sides[groups[x.ID]], x.ID)
+	}
+	if len(sides[0]) > 0 || !part.Apart(v, sides[1], sides[2]) {
+		t.Errorf("T5: %v and %v are not isolated any more", sides[1], sides[2])
+	}
+}
+
 // TestTheorem5 plays scripts of two groups that share nothing, and again
 // without the picks and steps of one of them.
 func TestP31_2Theorem5(t *testing.T) {
@@ -308,6 +326,10 @@ func TestP31_2Theorem5(t *testing.T) {
 				if groups[x.ID] == 0 {
 					groups[x.ID] = actor
 				}
+			}
+			staysApart(t, w, groups)
+			if t.Failed() {
+				t.Fatalf("script %d: %+v", n, e)
 			}
 		}
 		for group := 1; group <= 2; group++ {
