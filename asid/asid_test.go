@@ -217,6 +217,29 @@ func TestP19_2SerialsRunOut(t *testing.T) {
 	noRoot(t, a, last)
 }
 
+func TestP19_2TheLastSerial(t *testing.T) {
+	a := asid.New()
+	for i := range 8 {
+		addPool(t, a, 1+i, i, api.OK)
+	}
+	for i := range 3 {
+		assign(t, a, 8, 100+i, 28+i, 28+i, api.OK)
+	}
+	last := 0
+	for {
+		_, s, code := a.Assign(8, 9)
+		if code != api.OK {
+			break
+		}
+		last = s
+		a.Unassign(9)
+	}
+	// Number 31 is the one that gets the greatest serial that there is.
+	if last != api.MaxSerial {
+		t.Errorf("the last serial is %d", last)
+	}
+}
+
 func TestP19_2Nothing(t *testing.T) {
 	a := asid.New()
 	addPool(t, a, 5, 0, api.OK)

@@ -184,6 +184,8 @@ func TestP33_1Threads(t *testing.T) {
 	v := boot(t)
 	v.Threads = v.Threads[1:]
 	finds(t, "no record", v, finding(4, 1, 0))
+	v.Queue = v.Queue[1:]
+	finds(t, "no record, and not in the queue", v, finding(4, 1, 0))
 	v = boot(t)
 	v.Threads = append(v.Threads, api.Thread{ID: 99})
 	finds(t, "no object", v, finding(4, 99, 0))

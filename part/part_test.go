@@ -77,6 +77,8 @@ func TestP34_1Reach(t *testing.T) {
 	// Of several objects with one number the first one counts.
 	v.Objects = append(v.Objects, api.Object{ID: 6, Kind: api.KindNode})
 	reach(t, v, []int{4}, 0, 2, 3, 4, 6, 8)
+	v.Objects = append(v.Objects, api.Object{ID: 9, Kind: api.KindFrame})
+	reach(t, v, []int{9, 4}, 0, 2, 3, 4, 6, 8, 9)
 	v.Objects[5].Kind = api.KindNode
 	reach(t, v, []int{4}, 0, 2, 3, 4, 6, 7, 8)
 }
@@ -158,6 +160,10 @@ func TestP34_2Threads(t *testing.T) {
 	v.Threads = append(v.Threads, v.Threads[0])
 	apart(t, "two threads with one ID", v, []int{1}, []int{8}, false)
 	apart(t, "two threads with one ID", v, []int{1}, []int{1, 8}, false)
+	apart(t, "two threads with one ID", v, []int{1, 1}, []int{8}, false)
+	v = spaces(t)
+	slices.Reverse(v.Threads)
+	apart(t, "threads in another order", v, []int{1}, []int{8}, true)
 	apart(t, "nothing", api.View{}, nil, nil, true)
 }
 

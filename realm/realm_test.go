@@ -340,6 +340,10 @@ func TestP23_3Space(t *testing.T) {
 	// A capability of another kind in the slot.
 	r.Hold().Copy(at(6, 3), at(2, api.SlotSpace), 7)
 	space(t, r, 2, 0, 0, 0, false)
+	// A capability of another kind, with the number of a root.
+	r.Hold().Clear(at(2, api.SlotSpace))
+	r.Hold().Root(at(2, api.SlotSpace), api.Cap{Kind: api.KindTable, Obj: 3})
+	space(t, r, 2, 0, 0, 0, false)
 	// A root that is not in the arena.
 	r.Arena().Drop(3)
 	space(t, r, 1, 0, 0, 0, false)

@@ -67,6 +67,7 @@ func TestP15_1AddSize(t *testing.T) {
 			t.Errorf("Size(%d) = %d", node, s.Size(node))
 		}
 	}
+	add(t, s, 1, 1, api.OK)
 	add(t, s, math.MaxInt, 4, api.OK)
 	if s.Size(math.MaxInt) != 4 || s.Size(5) != 0 || s.Size(100) != 0 {
 		t.Error("Size")
