@@ -148,10 +148,28 @@ func (m *maker) value(t reflect.Type, deep int) reflect.Value {
 	return v
 }
 
+// nothing reports whether a value is zero, where a list that is empty is one
+// that is nil.
+func nothing(v reflect.Value) bool {
+	switch v.Kind() {
+	case reflect.Slice:
+		return v.Len() == 0
+	case reflect.Struct:
+		for i := range v.NumField() {
+			if !nothing(v.Field(i)) {
+				return false
+			}
+		}
+		return true
+	}
+	return v.IsZero()
+}
+
 // zeroBesideErrors checks R2, but for the calls of which a chapter says otherwise.
 func zeroBesideErrors(t *testing.T, name string, results []reflect.Value) {
 	t.Helper()
-	if len(results) < 2 {
+	// What List of ends returns at last does not tell whether there is something.
+	if len(results) < 2 || name == "*ends.Ends.List" {
 		return
 	}
 	last := results[len(results)-1]
@@ -160,7 +178,7 @@ func zeroBesideErrors(t *testing.T, name string, results []reflect.Value) {
 		return
 	}
 	for i, r := range results[:len(results)-1] {
-		if !r.IsZero() && !(r.Kind() == reflect.Slice && r.Len() == 0) {
+		if !nothing(r) {
 			t.Errorf("%s: beside %v, result %d is %v", name, last, i, r)
 		}
 	}
@@ -209,7 +227,7 @@ func TestR3NilObjects(t *testing.T) {
 				}
 				for _, r := range f.Call(args) {
 					code, isCode := r.Interface().(api.Errno)
-					if isCode && code != api.ErrNil || !isCode && !r.IsZero() {
+					if isCode && code != api.ErrNil || !isCode && !nothing(r) {
 						t.Errorf("%v.%s of nil returns %v", x, x.Method(i).Name, r)
 					}
 				}

@@ -1,8 +1,8 @@
 package vspace_test
 
 import (
+	"fmt"
 	"math"
-	"reflect"
 	"testing"
 
 	"seisin/api"
@@ -10,6 +10,10 @@ import (
 	"seisin/vspace"
 	"seisin/walk"
 )
+
+// equal compares two values as they are printed, so that a list that is nil
+// and one that is empty are the same.
+func equal(a, b any) bool { return fmt.Sprintf("%+v", a) == fmt.Sprintf("%+v", b) }
 
 // The slots of the fixture's node 1.
 const (
@@ -102,7 +106,7 @@ func same(t *testing.T, r *realm.Realm, call string, want api.Errno, do func() a
 	view, words := r.View(), memory(r)
 	c0, c1 := r.Cores().All(0), r.Cores().All(1)
 	is(t, call, do(), want)
-	if !reflect.DeepEqual(r.View(), view) || !reflect.DeepEqual(memory(r), words) || !reflect.DeepEqual(r.Cores().All(0), c0) || !reflect.DeepEqual(r.Cores().All(1), c1) {
+	if !equal(r.View(), view) || !equal(memory(r), words) || !equal(r.Cores().All(0), c0) || !equal(r.Cores().All(1), c1) {
 		t.Errorf("%s returned %d and changed something", call, want)
 	}
 }
@@ -167,7 +171,7 @@ func cached(t *testing.T, r *realm.Realm, pages ...int) {
 				}
 			}
 		}
-		if len(got) != len(pages) || len(got) > 0 && !reflect.DeepEqual(got, pages) {
+		if len(got) != len(pages) || len(got) > 0 && !equal(got, pages) {
 			t.Errorf("the cache of core %d has the pages %v; want %v", core, got, pages)
 		}
 	}
